@@ -1,0 +1,1 @@
+"""Halverules: functions told by halves, for all n."""
