@@ -1,6 +1,7 @@
-"""Which values are integers, as the document means them."""
+"""Which values are integers, rows and functions, as the document means them."""
 
-from halverules.limits import LARGEST
+from halverules.errors import InvalidRule, InvalidValues
+from halverules.limits import ENTRY, LARGEST
 
 
 def is_integer(value):
@@ -17,3 +18,31 @@ def is_between(value, low, high):
 def is_number(value):
     """Whether it is a number at which a function may be asked."""
     return is_between(value, 0, LARGEST)
+
+
+def is_entry(value):
+    """Whether it is an integer that may stand in a rule."""
+    return is_between(value, -ENTRY, ENTRY)
+
+
+def is_row(value, width):
+    """Whether it is a tuple of so many integers that may stand in a rule."""
+    return isinstance(value, tuple) and len(value) == width and all([is_entry(entry) for entry in value])
+
+
+def check_entries(value, width):
+    """InvalidValues if it is no tuple of so many integers that may stand in a rule."""
+    if not isinstance(value, tuple) or len(value) != width:
+        raise InvalidValues(None)
+    for at, entry in enumerate(value):
+        if not is_entry(entry):
+            raise InvalidValues(at)
+
+
+def check_rows(value, width):
+    """InvalidRule if it is no tuple of as many such rows as they are wide."""
+    if not isinstance(value, tuple) or len(value) != width:
+        raise InvalidRule(None)
+    for at, row in enumerate(value):
+        if not is_row(row, width):
+            raise InvalidRule(at)

@@ -1,51 +1,51 @@
 """Lines: functions with integer values that are told by one another, by halves.
 
-A mix is a combination of lines, a pair: a dict of the factors other than 0 by the index of the line, and the bottom,
-an integer from 1 on, by which their sum is divided.
+A mix is a sum of integer multiples of lines: a dict of the factors other than 0 by the index of the line.
 """
 
-from math import gcd, lcm
-
-from halverules.rows import sparse
+# From so many binary digits on, four of them are taken at once.
+MANY_DIGITS = 80
 
 
 class Lines:
-    """For each line the pair of the mixes that it is at 2 n and at 2 n + 1, and its value at 0."""
+    """The mixes that the lines are at 2 n, those that they are at 2 n + 1, as a pair, and their values at 0."""
 
-    def __init__(self, halves, starts):
-        self.halves = halves
+    def __init__(self, evens, odds, starts):
+        self.halves = (evens, odds)
         self.starts = starts
-
-
-def lowest(factors, bottom):
-    """The mix with these factors over the bottom, zeros left out, in lowest terms."""
-    common = bottom
-    for at in factors:
-        common = gcd(common, factors[at])
-        if common == 1:
-            break
-    return {at: factors[at] // common for at in factors if factors[at] != 0}, bottom // common
 
 
 def moved(mix, shift):
     """The same mix of lines that stand so much further behind."""
-    factors, bottom = mix
-    return {at + shift: factors[at] for at in factors}, bottom
+    return {at + shift: mix[at] for at in mix}
+
+
+def combined(factors, mixes):
+    """The mix that is the sum of the factors times the mixes."""
+    mixed = {}
+    for at in factors:
+        times = factors[at]
+        mix = mixes[at]
+        for to in mix:
+            mixed[to] = mixed.get(to, 0) + times * mix[to]
+    return {to: mixed[to] for to in mixed if mixed[to] != 0}
 
 
 def half_mix(lines, mix, digit):
     """What the mix of the lines at 2 n + digit is as a mix of the lines at n."""
-    factors, bottom = mix
-    shared = 1
-    for at in factors:
-        shared = lcm(shared, lines.halves[at][digit][1])
-    mixed = {}
-    for at in factors:
-        parts, under = lines.halves[at][digit]
-        times = factors[at] * (shared // under)
-        for to in parts:
-            mixed[to] = mixed.get(to, 0) + times * parts[to]
-    return lowest(mixed, bottom * shared)
+    return combined(mix, lines.halves[digit])
+
+
+def mix_rests(mix, modulus):
+    """The mix with the rests of its factors."""
+    return {at: mix[at] % modulus for at in mix if mix[at] % modulus != 0}
+
+
+def line_rests(lines, modulus):
+    """The lines with the rests of their factors and of their first values."""
+    evens, odds = lines.halves
+    starts = [start % modulus for start in lines.starts]
+    return Lines([mix_rests(mix, modulus) for mix in evens], [mix_rests(mix, modulus) for mix in odds], starts)
 
 
 def sum_of(factors, values):
@@ -53,40 +53,38 @@ def sum_of(factors, values):
     return sum([factors[at] * values[at] for at in factors])
 
 
-def value_of(mix, values):
-    """The value of a mix of lines that have these values."""
-    factors, bottom = mix
-    return sum_of(factors, values) // bottom
+def stepped_values(mixes, values):
+    """The values of these mixes of lines that have these values."""
+    return [sum_of(factors, values) for factors in mixes]
 
 
 def next_values(lines, values, digit):
     """The values of all lines at 2 n + digit, from those at n."""
-    return [value_of(halves[digit], values) for halves in lines.halves]
+    return stepped_values(lines.halves[digit], values)
 
 
 def values_at(lines, n):
     """The values of all lines at n."""
+    length = n.bit_length()
+    if length >= MANY_DIGITS:
+        return values_far_out(lines, n)
     values = lines.starts
-    for at in reversed(range(n.bit_length())):
+    for at in reversed(range(length)):
         values = next_values(lines, values, n >> at & 1)
     return values
 
 
-def lines_of(equations, firsts):
-    """The lines of a least rule."""
-    return Lines([(mix_of(even), mix_of(odd)) for even, odd in equations], list(firsts))
-
-
-def mix_of(fractions):
-    """The mix with these fractions as its factors."""
-    shared = 1
-    for _, bottom in fractions:
-        shared = lcm(shared, bottom)
-    return sparse([top * (shared // bottom) for top, bottom in fractions]), shared
-
-
-def first_line(lines):
-    """The mix that is the first line, 0 without lines."""
-    if not lines.starts:
-        return {}, 1
-    return {0: 1}, 1
+def values_far_out(lines, n):
+    """The values of all lines at n, by four digits at once."""
+    pairs = [[combined(low, high) for low in lows] for high in lines.halves for lows in lines.halves]
+    fours = {}
+    values = lines.starts
+    for at in reversed(range(0, n.bit_length(), 4)):
+        digits = n >> at & 15
+        if digits not in fours:
+            fours[digits] = [combined(low, pairs[digits >> 2]) for low in pairs[digits & 3]]
+        values = stepped_values(fours[digits], values)
+        # Where all lines are 0 they stay so.
+        if not any(values):
+            break
+    return values

@@ -49,3 +49,17 @@ def least_index(row, width):
         if at in row:
             return at
     return None
+
+
+def settled(echelon):
+    """An echelon of the same combinations in which each row is 0 at the indexes of all others."""
+    later = []
+    for at in reversed(range(len(echelon))):
+        pivot, row = echelon[at]
+        later.append((pivot, reduced(row, later)))
+    return later
+
+
+def row_product(row, other):
+    """The sum of the products of what two rows have at the same indexes."""
+    return sum([row[at] * other[at] for at in row if at in other])

@@ -1,44 +1,28 @@
 """Lines that are made from other lines, so that the results of operators are mixes of them."""
 
-from math import lcm
-
-from halverules.lines import Lines, lowest, moved, values_at
+from halverules.lines import Lines, moved, values_at
 
 
 def beside(first, second):
     """The lines of both, those of the second behind those of the first."""
     width = len(first.starts)
-    halves = [(moved(even, width), moved(odd, width)) for even, odd in second.halves]
-    return Lines([*first.halves, *halves], [*first.starts, *second.starts])
-
-
-def summed_mix(first, second, times):
-    """The mix of the lines of beside that is the first line of the one and so many times that of the other."""
-    factors = {}
-    if first.starts:
-        factors[0] = 1
-    if second.starts:
-        factors[len(first.starts)] = times
-    return factors, 1
+    evens, odds = [
+        [*mixes, *[moved(mix, width) for mix in others]] for mixes, others in zip(first.halves, second.halves)]
+    return Lines(evens, odds, [*first.starts, *second.starts])
 
 
 def crossed(first, second):
     """The products of each line of the first with each line of the second."""
     width = len(second.starts)
-    halves = [
-        (crossed_mix(even, other_even, width), crossed_mix(odd, other_odd, width))
-        for even, odd in first.halves
-        for other_even, other_odd in second.halves
-    ]
-    return Lines(halves, [start * other for start in first.starts for other in second.starts])
+    evens, odds = [
+        [crossed_mix(mix, other, width) for mix in mixes for other in others]
+        for mixes, others in zip(first.halves, second.halves)]
+    return Lines(evens, odds, [start * other for start in first.starts for other in second.starts])
 
 
 def crossed_mix(mix, other, width):
     """The product of two mixes as a mix of the products of their lines."""
-    factors, bottom = mix
-    others, under = other
-    both = {at * width + to: factors[at] * others[to] for at in factors for to in others}
-    return lowest(both, bottom * under)
+    return {at * width + to: mix[at] * other[to] for at in mix for to in other}
 
 
 def offsets_of(step, start):
@@ -59,14 +43,20 @@ def thinned(lines, step, start):
     offsets = offsets_of(step, start)
     width = len(lines.starts)
     places = {offset: at * width for at, offset in enumerate(offsets)}
-    halves = []
+    evens = []
+    odds = []
     starts = []
-    for even in offsets:
-        odd = even + step
-        for line in lines.halves:
-            halves.append((moved(line[even % 2], places[even // 2]), moved(line[odd % 2], places[odd // 2])))
-        starts.extend(values_from(lines, even))
-    return Lines(halves, starts)
+    for offset in offsets:
+        evens.extend(thinned_half(lines, offset, places))
+        odds.extend(thinned_half(lines, offset + step, places))
+        starts.extend(values_from(lines, offset))
+    return Lines(evens, odds, starts)
+
+
+def thinned_half(lines, offset, places):
+    """The mixes that the lines at step n + offset are of those at step n + c, if step is even."""
+    half, digit = divmod(offset, 2)
+    return [moved(mix, places[half]) for mix in lines.halves[digit]]
 
 
 def values_from(lines, n):
@@ -79,31 +69,24 @@ def values_from(lines, n):
 def spread(lines, times):
     """For each rest by times, from 0 on, the lines at n // times where n has this rest, 0 elsewhere."""
     width = len(lines.starts)
-    halves = [
-        (spread_mix(line, times, rest, width, 0), spread_mix(line, times, rest, width, 1))
-        for rest in range(times)
-        for line in lines.halves
-    ]
-    return Lines(halves, [*lines.starts, *([0] * (width * (times - 1)))])
+    evens, odds = [
+        [spread_mix(lines, times, rest, at, digit) for rest in range(times) for at in range(width)] for digit in (0, 1)]
+    return Lines(evens, odds, [*lines.starts, *([0] * (width * (times - 1)))])
 
 
-def spread_mix(line, times, rest, width, digit):
-    """What the line of spread for this rest is at 2 n + digit."""
-    shared = lcm(line[0][1], line[1][1])
+def spread_mix(lines, times, rest, at, digit):
+    """What the line of spread for this rest and the line at this index is at 2 n + digit."""
     mixed = {}
     for before in range(times):
         half, after = divmod(2 * before + digit, times)
         if after == rest:
-            factors, bottom = line[half]
-            for at in factors:
-                mixed[before * width + at] = factors[at] * (shared // bottom)
-    return lowest(mixed, shared)
+            mix = lines.halves[half][at]
+            for to in mix:
+                mixed[before * len(lines.starts) + to] = mix[to]
+    return mixed
 
 
-def spread_first(lines, times):
-    """The mix of the lines of spread that is the first line at n // times."""
-    factors = {}
-    if lines.starts:
-        for rest in range(times):
-            factors[rest * len(lines.starts)] = 1
-    return factors, 1
+def spread_everywhere(lines, mix, times):
+    """The mix of the lines of spread that is the mix of the lines at n // times."""
+    width = len(lines.starts)
+    return {rest * width + at: mix[at] for rest in range(times) for at in mix}

@@ -1,10 +1,10 @@
-"""Lines without fractions, and the rests of mixes of them.
+"""Lines without fractions, made from broken lines.
 
 A lattice is a dict of rows of integers by the index of their first integer other than 0, one row for each such index.
 Its members are the sums of integer multiples of its rows.
 """
 
-from halverules.lines import Lines, half_mix, next_values, sum_of
+from halverules.lines import Lines
 from halverules.rows import sparse
 
 
@@ -16,7 +16,7 @@ def lessened(vector, other, times):
 def left_over(lattice, vector):
     """The vector less some member of the lattice, zeros if it is itself one."""
     for at in range(len(vector)):
-        if at in lattice:
+        if at in lattice and vector[at] != 0:
             vector = lessened(vector, lattice[at], vector[at] // lattice[at][at])
     return vector
 
@@ -32,10 +32,10 @@ def widened(lattice, vector):
         if vector[at] != 0:
             rows[at] = vector
             break
-    return settled(rows, len(vector))
+    return small_rows(rows, len(vector))
 
 
-def settled(lattice, width):
+def small_rows(lattice, width):
     """The same lattice, its rows made small by the later ones."""
     rows = {}
     for at in reversed(range(width)):
@@ -48,18 +48,31 @@ def settled(lattice, width):
     return rows
 
 
-def value_lattice(lines):
-    """The least lattice that has the values of all lines at n, for each n."""
+def exact_values(shares, values):
+    """The values of shares of lines that have these values, None if one is no integer."""
+    exact = []
+    for factors, bottom in shares:
+        worth, over = divmod(sum([factors[at] * values[at] for at in factors]), bottom)
+        if over != 0:
+            return None
+        exact.append(worth)
+    return exact
+
+
+def value_lattice(broken):
+    """The least lattice that has the values of all lines at n, for each n; None if one is no integer."""
     lattice = {}
-    waiting = [lines.starts]
+    waiting = [broken.starts]
     at = 0
     while at < len(waiting):
         values = waiting[at]
         at += 1
-        if any([worth != 0 for worth in left_over(lattice, values)]):
+        if values is None:
+            return None
+        if any(left_over(lattice, values)):
             lattice = widened(lattice, values)
-            waiting.append(next_values(lines, values, 0))
-            waiting.append(next_values(lines, values, 1))
+            waiting.append(exact_values(broken.halves[0], values))
+            waiting.append(exact_values(broken.halves[1], values))
     return lattice
 
 
@@ -73,52 +86,22 @@ def factors_in(lattice, vector):
     return factors
 
 
-def whole_lines(lines):
-    """Lines with integer factors, and the mix of them that is the first of the given lines.
+def whole_lines(broken, share):
+    """Lines, and the mix of them that is the share of broken lines; None if a broken line has other than integers.
 
-    No given line may be a combination of the others. The values of the new lines make up the whole lattice of
-    integers, so a modulus that divides all values of a mix of them divides its factors, too.
+    No broken line may be a combination of the others, and all values of the share must be integers.
     """
-    width = len(lines.starts)
-    lattice = value_lattice(lines)
-    evens = [factors_in(lattice, next_values(lines, lattice[at], 0)) for at in range(width)]
-    odds = [factors_in(lattice, next_values(lines, lattice[at], 1)) for at in range(width)]
-    halves = [(column_mix(evens, at), column_mix(odds, at)) for at in range(width)]
-    first = sparse([lattice[at][0] for at in range(width)])
-    return Lines(halves, factors_in(lattice, lines.starts)), (first, 1)
+    lattice = value_lattice(broken)
+    if lattice is None:
+        return None
+    width = len(broken.starts)
+    evens, odds = [whole_half(lattice, shares) for shares in broken.halves]
+    mix = sparse([exact_values([share], lattice[at])[0] for at in range(width)])
+    return Lines(evens, odds, factors_in(lattice, broken.starts)), mix
 
 
-def column_mix(rows, at):
-    """The mix with the items at this index as its factors."""
-    return sparse([row[at] for row in rows]), 1
-
-
-def rest_lines(lines, mix, modulus, most):
-    """The rests by the modulus of all parts of a mix, the different ones, as lines; that of the mix is the first.
-
-    The lines and the mix are those of whole_lines. None if there are more rests than `most`.
-    """
-    width = len(lines.starts)
-    rows = [rests_of(mix, width, modulus)]
-    places = {rows[0]: 0}
-    halves = []
-    at = 0
-    while at < len(rows):
-        part = (sparse(rows[at]), 1)
-        at += 1
-        children = [rests_of(half_mix(lines, part, digit), width, modulus) for digit in (0, 1)]
-        for row in children:
-            if row not in places:
-                if len(rows) == most:
-                    return None
-                places[row] = len(rows)
-                rows.append(row)
-        even, odd = children
-        halves.append((({places[even]: 1}, 1), ({places[odd]: 1}, 1)))
-    return Lines(halves, [sum_of(sparse(row), lines.starts) % modulus for row in rows])
-
-
-def rests_of(mix, width, modulus):
-    """The rests of the factors of a mix without a bottom."""
-    factors, _ = mix
-    return tuple([factors.get(at, 0) % modulus for at in range(width)])
+def whole_half(lattice, shares):
+    """The mixes that new lines are at 2 n or at 2 n + 1, from the shares that the broken lines are there."""
+    width = len(shares)
+    rows = [factors_in(lattice, exact_values(shares, lattice[at])) for at in range(width)]
+    return [sparse([row[at] for row in rows]) for at in range(width)]
