@@ -1,4 +1,8 @@
-"""The fewest lines of which a given mix of lines is a mix, so that there are as many of them as its rank."""
+"""The fewest lines of which a given mix of lines is a mix, so that there are as many of them as its rank.
+
+Lines that are combinations of others are left out first; then factors tell functions apart, and only what is mixed from
+the factors of parts is kept. Where this brings in fractions, other lines are taken that are told without them.
+"""
 
 from halverules.broken import BrokenLines, combined_share, half_share, is_whole, share_of
 from halverules.errors import TooMany
@@ -12,6 +16,7 @@ from halverules.whole import whole_lines
 def fewest_lines(lines, mix):
     """As many lines as the rank of a mix, and the same function as a mix of them; TooMany if it is too great."""
     lines, mix = reached(lines, mix)
+    # Great numbers make the exact way long, and most mixes need not go it.
     bound = rank_bound(lines, mix)
     if bound > RANK:
         raise TooMany()

@@ -3,8 +3,8 @@
 A mix is a sum of integer multiples of lines: a dict of the factors other than 0 by the index of the line.
 """
 
-# From so many binary digits on, four of them are taken at once.
-MANY_DIGITS = 80
+# From so many binary digits for each line on, it is quicker to take four of them at once.
+MANY_DIGITS = 30
 
 
 class Lines:
@@ -66,11 +66,14 @@ def next_values(lines, values, digit):
 def values_at(lines, n):
     """The values of all lines at n."""
     length = n.bit_length()
-    if length >= MANY_DIGITS:
+    if length >= MANY_DIGITS * len(lines.starts):
         return values_far_out(lines, n)
     values = lines.starts
     for at in reversed(range(length)):
         values = next_values(lines, values, n >> at & 1)
+        # Where all lines are 0 they stay so.
+        if not any(values):
+            break
     return values
 
 
@@ -84,7 +87,6 @@ def values_far_out(lines, n):
         if digits not in fours:
             fours[digits] = [combined(low, pairs[digits >> 2]) for low in pairs[digits & 3]]
         values = stepped_values(fours[digits], values)
-        # Where all lines are 0 they stay so.
         if not any(values):
             break
     return values

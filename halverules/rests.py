@@ -36,7 +36,7 @@ def rest_parts(lines, mix, modulus, most):
 def value_rests(lines, modulus):
     """Rows of values of which the values of all lines at n are sums of integer multiples, for each n, but for rests."""
     width = len(lines.starts)
-    lattice = {at: [modulus if to == at else 0 for to in range(width)] for at in range(width)}
+    lattice = {place: [modulus if to == place else 0 for to in range(width)] for place in range(width)}
     waiting = [lines.starts]
     at = 0
     while at < len(waiting):
@@ -46,7 +46,7 @@ def value_rests(lines, modulus):
             lattice = widened(lattice, values)
             waiting.append(next_values(lines, values, 0))
             waiting.append(next_values(lines, values, 1))
-    return [lattice[at] for at in range(width)]
+    return [lattice[place] for place in range(width)]
 
 
 def seen_as(part, seen, modulus):

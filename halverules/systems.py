@@ -54,7 +54,7 @@ def thinned(lines, step, start):
 
 
 def thinned_half(lines, offset, places):
-    """The mixes that the lines at step n + offset are of those at step n + c, if step is even."""
+    """The mixes that the lines at 2 * step * n + offset are of the lines at step * n + c."""
     half, digit = divmod(offset, 2)
     return [moved(mix, places[half]) for mix in lines.halves[digit]]
 

@@ -58,10 +58,33 @@ INTERFACE = {
         "InvalidText", "InvalidCommand", "NotAFunction", "StateError", "UnknownName", "Refused", "Parted", "Busy",
         "NothingToUndo", "NoMember", "LimitError", "TooMany", "TooManyStates"],
     "halved": ["Halved", "constant", "number", "single"],
+    "rules": ["rule"],
+    "costs": ["costs"],
+    "loops": ["from_high", "from_low"],
+    "sums": ["sums"],
+    "relations": ["parting", "new_numbers", "relations"],
+    "learning": ["told_back"],
+    "numbers": ["Numbers", "where"],
 }
-HALVED = set(
-    "rank basis equations firsts __call__ __add__ __radd__ __sub__ __rsub__ __mul__ __rmul__ __neg__ __pow__ __lshift__"
-    " __rshift__ __floordiv__ __mod__ __getitem__ __eq__ __bool__ __str__ __repr__".split())
+METHODS_OF = {
+    ("halved", "Halved"): set(
+        "rank basis equations firsts __call__ __add__ __radd__ __sub__ __rsub__ __mul__ __rmul__ __neg__ __pow__"
+        " __lshift__ __rshift__ __floordiv__ __mod__ __getitem__ __eq__ __bool__ __str__ __repr__".split()),
+    ("numbers", "Numbers"): set(
+        "told __and__ __or__ __sub__ __xor__ __invert__ __contains__ __le__ __bool__ __eq__ states least is_finite count"
+        " kth indicator".split()),
+}
+# The parameters of each function of the interface, and of the methods that are not operators.
+PARAMETERS = {
+    ("halved", "constant"): "c", ("halved", "number"): "", ("halved", "single"): "n",
+    ("halved", "Halved.__call__"): "self n",
+    ("rules", "rule"): "even odd firsts told", ("costs", "costs"): "low high extra values",
+    ("loops", "from_high"): "start zero one answer", ("loops", "from_low"): "start zero one answer", ("sums", "sums"): "f",
+    ("relations", "parting"): "f g", ("relations", "new_numbers"): "*functions", ("relations", "relations"): "*functions",
+    ("learning", "told_back"): "values", ("numbers", "where"): "f modulus rest", ("numbers", "Numbers.told"): "*members",
+    ("numbers", "Numbers.count"): "self below", ("numbers", "Numbers.kth"): "self index",
+    ("numbers", "Numbers.indicator"): "self",
+}
 
 
 class Source:
@@ -327,11 +350,50 @@ class ExpressionsTest(unittest.TestCase):
                     self.assertTrue(call in heads + inner, (source.path, call.lineno))
 
     def test_order_of_things_is_not_asked(self):
-        # Sets of numbers are to have <=, and with that only plain numbers and texts may be put in order.
+        # Sets of numbers have <=, and with that only plain numbers and texts may be put in order.
         for source in SOURCES:
             for call in source.nodes(ast.Call):
                 if isinstance(call.func, ast.Name):
                     self.assertNotIn(call.func.id, ("sorted", "min", "max"))
+
+
+    def test_no_stars_in_calls(self):
+        for source in SOURCES:
+            for call in source.nodes(ast.Call):
+                self.assertEqual([arg for arg in call.args if isinstance(arg, ast.Starred)], [], (source.path, call.lineno))
+                self.assertEqual([keyword for keyword in call.keywords if keyword.arg is None], [])
+
+    def test_names_in_comprehensions(self):
+        kinds = (ast.ListComp, ast.DictComp)
+        for source in SOURCES:
+            for outer in source.nodes(*kinds):
+                own = {name.id for part in outer.generators for name in ast.walk(part.target) if isinstance(name, ast.Name)}
+                for inner in [node for node in ast.walk(outer) if isinstance(node, kinds) and node is not outer]:
+                    taken = {name.id for part in inner.generators for name in ast.walk(part.target)
+                             if isinstance(name, ast.Name)}
+                    self.assertEqual(own & taken - {"_"}, set(), (source.path, outer.lineno))
+            for function in source.functions():
+                inside = [node for node in ast.walk(function) if isinstance(node, kinds)]
+                bound = {name.id for node in inside for part in node.generators for name in ast.walk(part.target)
+                         if isinstance(name, ast.Name)}
+                within = {name for node in inside for name in ast.walk(node)}
+                outside = {name.id for name in ast.walk(function) if isinstance(name, ast.Name) and not is_read(name)
+                           and name not in within}
+                # Narrower than the rule: where comprehensions stand in one another, none takes a name of the function.
+                if any(isinstance(part, kinds) for node in inside for part in ast.walk(node) if part is not node):
+                    self.assertEqual(bound & outside - {"_"}, set(), (source.path, function.name))
+
+    def test_keywords_of_builtins(self):
+        for source in SOURCES:
+            for call in source.nodes(ast.Call):
+                if isinstance(call.func, ast.Name) and call.func.id in vars(builtins):
+                    self.assertEqual(call.keywords, [], (source.path, call.lineno))
+
+    def test_any_and_the_like_take_lists(self):
+        for source in SOURCES:
+            for call in source.nodes(ast.Call):
+                if isinstance(call.func, ast.Name) and call.func.id in ("any", "all", "sum"):
+                    self.assertIsInstance(call.args[0], (ast.ListComp, ast.Name, ast.Call, ast.Attribute))
 
 
 class ChangesTest(unittest.TestCase):
@@ -424,8 +486,20 @@ class InterfaceTest(unittest.TestCase):
             self.assertEqual([name for name in names if name not in defined], [])
 
     def test_methods_stand_in_the_class_itself(self):
-        owner = BY_MODULE[f"{NAME}.halved"].defined()["Halved"]
-        self.assertEqual(HALVED - {node.name for node in owner.body if isinstance(node, ast.FunctionDef)}, set())
+        for (module, name), methods in METHODS_OF.items():
+            owner = BY_MODULE[f"{NAME}.{module}"].defined()[name]
+            self.assertEqual(methods - {node.name for node in owner.body if isinstance(node, ast.FunctionDef)}, set())
+
+    def test_parameters(self):
+        for (module, name), parameters in PARAMETERS.items():
+            place = BY_MODULE[f"{NAME}.{module}"].defined()[name.split(".")[0]]
+            if "." in name:
+                (place,) = [node for node in place.body if getattr(node, "name", None) == name.split(".")[1]]
+            found = [arg.arg for arg in place.args.args]
+            if place.args.vararg:
+                found.append("*" + place.args.vararg.arg)
+            self.assertEqual(" ".join(found), parameters)
+            self.assertEqual((place.args.defaults, place.args.kwonlyargs, place.args.posonlyargs), ([], [], []))
 
 
 if __name__ == "__main__":
