@@ -1,7 +1,9 @@
 """Which values are integers, rows and functions, as the document means them."""
 
 from halverules.errors import InvalidRule, InvalidValues
-from halverules.limits import ENTRY, LARGEST
+from halverules.limits import ENTRY, LARGEST, NAME
+
+LETTERS = "abcdefghijklmnopqrstuvwxyz"
 
 
 def is_integer(value):
@@ -46,3 +48,10 @@ def check_rows(value, width):
     for at, row in enumerate(value):
         if not is_row(row, width):
             raise InvalidRule(at)
+
+
+def is_name(value):
+    """Whether it is a name: letters from a to z, and not too many."""
+    if not isinstance(value, str) or not 1 <= len(value) <= NAME:
+        return False
+    return all([letter in LETTERS for letter in value])

@@ -6,7 +6,7 @@ from halverules.halved import Halved, constant, function_of
 from halverules.limits import FACTOR, FIRST_VALUES
 from halverules.lines import Lines, half_mix, moved, sum_of, values_at
 from halverules.rows import sparse
-from halverules.systems import beside, thinned
+from halverules.systems import beside, single_lines, thinned
 
 # Twice this many are the most first values.
 SINGLES = 4
@@ -30,7 +30,7 @@ def costs(low, high, extra, values):
 
 def cost_lines(low, high, extra, values):
     """Lines of which the first is T(n) and the second T(n + 1)."""
-    further = beside(single_lines(), thinned(extra.lines, 1, 1))
+    further = beside(single_lines(SINGLES), thinned(extra.lines, 1, 1))
     repairs = [worth - guess(low, high, extra, values, at) for at, worth in enumerate(values)]
     # What T(n) has besides, at 2 n, 2 n + 1 and 2 n + 2.
     even, odd, after = [besides(extra, repairs, offset) for offset in (0, 1, 2)]
@@ -47,14 +47,6 @@ def guess(low, high, extra, values, n):
     """What the recursion would give at the number of a first value."""
     own = sum_of(extra.mix, values_at(extra.lines, n))
     return low * values[n // 2] + high * values[(n + 1) // 2] + own
-
-
-def single_lines():
-    """The functions that are 1 at 0, at 1, .. only."""
-    return Lines(
-        [{at // 2: 1} if at % 2 == 0 else {} for at in range(SINGLES)],
-        [{at // 2: 1} if at % 2 == 1 else {} for at in range(SINGLES)],
-        [1, *([0] * (SINGLES - 1))])
 
 
 def besides(extra, repairs, offset):

@@ -30,3 +30,29 @@ PAIRS = 4096
 
 # The most functions whose relations are found together.
 FUNCTIONS = 6
+
+# The most letters of a name.
+NAME = 8
+
+# Parts of functions are looked at so far out at least before there are too many of them.
+LOOKED_AT = 4096
+
+# In a text of recurrences: the most functions, first values and terms, and how far a term may be from n.
+RECURRENCES = 3
+FIRSTS = 4
+TERMS = 6
+APART = 2
+
+# The greatest k at which a row is asked, the most that it is shifted, where it may start, the greatest base of powers.
+PLACE = 1000
+SHIFT = 64
+START = 10 ** 6
+BASE = 100
+
+# The most pairs of an equation.
+EQUATED = 6
+
+# For the checker: the most lines of a plain rule, numbers of a span, and rules of a relation.
+PLAIN_LINES = 100
+SPAN = 200
+RELATED = 6

@@ -14,8 +14,12 @@ def parting(f, g):
     check_function(f)
     check_function(g)
     width = len(f.lines.starts)
-    apart = {**f.mix, **{at + width: -g.mix[at] for at in g.mix}}
-    for number, values in fresh_numbers(beside(f.lines, g.lines), apart):
+    return first_apart(beside(f.lines, g.lines), {**f.mix, **{at + width: -g.mix[at] for at in g.mix}})
+
+
+def first_apart(lines, apart):
+    """The least n at which a mix of lines is not 0, None if it is 0 for all n."""
+    for number, values in fresh_numbers(lines, apart):
         if sum_of(apart, values) != 0:
             return number
     return None
@@ -30,6 +34,11 @@ def new_numbers(*functions):
 
 def relations(*functions):
     """For each function that is a combination of those before it the row of integers by which they add up to 0."""
+    return relation_rows(functions)
+
+
+def relation_rows(functions):
+    """The rows of relations for these functions."""
     check_functions(functions)
     lines, mixes = together(functions)
     columns = [values for _, values in fresh_numbers(lines, {})]

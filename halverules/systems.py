@@ -25,6 +25,14 @@ def crossed_mix(mix, other, width):
     return {at * width + to: mix[at] * other[to] for at in mix for to in other}
 
 
+def single_lines(many):
+    """The functions that are 1 at 0, at 1, .., so many of them."""
+    return Lines(
+        [{at // 2: 1} if at % 2 == 0 else {} for at in range(many)],
+        [{at // 2: 1} if at % 2 == 1 else {} for at in range(many)],
+        [1, *([0] * (many - 1))])
+
+
 def offsets_of(step, start):
     """All c for which f(step n + c) is used where f(step n + start) is told by halves, start ahead."""
     offsets = [start]

@@ -4,6 +4,7 @@ A lattice is a dict of rows of integers by the index of their first integer othe
 Its members are the sums of integer multiples of its rows.
 """
 
+from halverules.broken import BrokenLines
 from halverules.lines import Lines
 from halverules.rows import sparse
 
@@ -87,14 +88,15 @@ def factors_in(lattice, vector):
 
 
 def whole_lines(broken, share):
-    """Lines, and the mix of them that is the share of broken lines; None if a broken line has other than integers.
+    """Lines, and the mix of them that is the share of broken lines.
 
-    No broken line may be a combination of the others, and all values of the share must be integers.
+    None if a broken line has other than integers or is a combination of the others. All values of the share must be
+    integers.
     """
     lattice = value_lattice(broken)
-    if lattice is None:
-        return None
     width = len(broken.starts)
+    if lattice is None or len(lattice) < width:
+        return None
     evens, odds = [whole_half(lattice, shares) for shares in broken.halves]
     mix = sparse([exact_values([share], lattice[at])[0] for at in range(width)])
     return Lines(evens, odds, factors_in(lattice, broken.starts)), mix
@@ -105,3 +107,13 @@ def whole_half(lattice, shares):
     width = len(shares)
     rows = [factors_in(lattice, exact_values(shares, lattice[at])) for at in range(width)]
     return [sparse([row[at] for row in rows]) for at in range(width)]
+
+
+def whole_rule(evens, odds, firsts):
+    """Lines, and the mix of them that is the first of the lines that a rule with these shares and first values tells.
+
+    None if the rule does not fit, or tells other than integers, or a line that is a combination of the others.
+    """
+    if exact_values(evens, firsts) != firsts:
+        return None
+    return whole_lines(BrokenLines(evens, odds, firsts), ({0: 1} if firsts else {}, 1))

@@ -101,3 +101,62 @@ def with_further_line(arguments, chance):
     return (
         wider(even), wider(odd), (*firsts, dot(factors, firsts)),
         (*[own - 2 * factor for own, factor in zip(told, factors)], 2))
+
+
+def signs(many):
+    """The sum of so many lines whose signs the digits change, with 2 ** many different parts.
+
+    Line i changes its sign with each 1 at a place that leaves the rest i by `many`.
+    """
+    before = [tuple(int(to == (at - 1) % many) for to in range(many)) for at in range(many)]
+    odd = [tuple(-worth if at == 0 else worth for worth in row) for at, row in enumerate(before)]
+
+    def value(n):
+        total = 0
+        for at in range(many):
+            total += (-1) ** sum(n >> place & 1 for place in range(at, n.bit_length(), many))
+        return total
+
+    return rule(tuple(before), tuple(odd), (1,) * many, (1,) * many), value
+
+
+def counted_signs(many):
+    """How many of these lines are 1: with as many different parts, and from 0 to `many`."""
+    ones, value = signs(many)
+    # As a rule of lines that are 0 or 1, with a last one that is 1 everywhere.
+    even = [tuple(int(to == (at - 1) % many) for to in range(many)) + (0,) for at in range(many)]
+    odd = [tuple(-worth for worth in row[:-1]) + (1,) if at == 0 else row for at, row in enumerate(even)]
+    last = (0,) * many + (1,)
+    counted = rule((*even, last), (*odd, last), (1,) * (many + 1), (1,) * many + (0,))
+    assert counted * 2 - many == ones
+    return counted, lambda n: (value(n) + many) // 2
+
+
+def turning_arguments(lines, chosen):
+    """A rule whose lines change places by the digits; so many of them are added up.
+
+    An even digit turns all lines but the first one round, an odd one exchanges the first two. One line is 1 at each
+    number, and all others are 0. There are as many parts as ways to choose so many of the lines.
+    """
+    turned = [0, *range(2, lines), 1]
+    exchanged = [1, 0, *range(2, lines)]
+    even, odd = [tuple(tuple(int(to == place) for to in range(lines)) for place in order) for order in (turned, exchanged)]
+    first = (1,) + (0,) * (lines - 1)
+    return even, odd, first, (1,) * chosen + (0,) * (lines - chosen)
+
+
+def turning(lines, chosen):
+    """The function by such a rule, and the plain one, which follows the chosen lines from the lowest digit on."""
+    arguments = turning_arguments(lines, chosen)
+
+    def value(n):
+        places = list(range(chosen))
+        while n:
+            if n % 2:
+                places = [1 - place if place < 2 else place for place in places]
+            else:
+                places = [place if place == 0 else place % (lines - 1) + 1 for place in places]
+            n //= 2
+        return int(0 in places)
+
+    return rule(*arguments), value

@@ -74,6 +74,70 @@ raises NotFitting(index=0)
 >>> [12 in threes, 13 in threes, odd == where(n, 2, 1), (threes & odd).least, threes.count(100), threes.kth(10 ** 20), threes.states, (~odd).indicator() == 1 - n % 2, Numbers.told(2, 5).is_finite]
 [True, False, True, 3, 34, 300000000000000000000, 3, True, True]
 """,
+    r"""
+>>> from halverules.halved import number
+>>> from halverules.texts import least_text, read_least
+>>> text = least_text(number())
+>>> [text, read_least(text) == number()]
+['rank 2\nf[1, 0] = 0; 2 f[1, 0]; 1 f[2, 1]\nf[2, 1] = 1; 2 f[1, 0] + 1 f[2, 1]; -2 f[1, 0] + 3 f[2, 1]', True]
+""",
+    r"""
+>>> from halverules.recurrences import solved
+>>> text = "s = 0 1\ns even = 1 s[0]\ns odd = 1 s[0] + 1 s[1]"
+>>> name, stern = solved(text)[0]
+>>> [name, stern(5), stern(2 ** 100 + 1), stern.rank, (stern << 1)(4)]
+['s', 3, 101, 2, 3]
+""",
+    """
+>>> from halverules.halved import number
+>>> from halverules.values import all_values, at_value, bounded
+>>> n = number()
+>>> f = n - n // 3 * 3 - n % 2
+>>> [all_values(f), at_value(f, 2).least, at_value(f, 2).count(60), bounded(f, -1, 2), bounded(f, 0, 2), bounded(n, 0, 100)]
+[(-1, 0, 1, 2), 2, 10, None, 3, 101]
+""",
+    """
+>>> from halverules.along import along, index, powers
+>>> from halverules.costs import costs
+>>> from halverules.halved import number
+>>> merges = costs(1, 1, number() - 1, (0, 0))
+>>> row, twos = along(merges, 1), powers(2)
+>>> [row == (index() - 1) * twos + 1, row.recurrence, row.firsts, row(20), (row << 1) == row * 2 + 2 * twos - 1, along(merges, 3)(2)]
+[True, (5, -8, 4), (0, 1, 5), 19922945, True, 33]
+""",
+    """
+>>> from halverules.desks import Desk
+>>> from halverules.halved import number
+>>> desk, n = Desk(), number()
+>>> done = desk.do_all(("set", "n", n), ("set", "half", n // 2), ("set", "rest", n % 2), ("equate", ((1, "n"), (-2, "half"), (-1, "rest"))))
+>>> desk.undo()
+>>> [done, desk.names, desk.equations, desk["half"](9), len(desk.history)]
+[4, ('half', 'n', 'rest'), (), 4, 3]
+""",
+    """
+>>> from halverules.desks import Desk
+>>> from halverules.halved import number
+>>> desk, n = Desk(), number()
+>>> done = desk.do_all(("set", "a", n), ("set", "b", n // 2), ("equate", ((1, "a"), (-1, "a"))))
+>>> desk.equate(((1, "a"), (-2, "b")))
+raises Refused(index=1)
+""",
+    """
+>>> from halverules.certificates import certify_parting, certify_rests, plain_rule
+>>> from halverules.checker import accepts
+>>> from halverules.halved import constant, number
+>>> n = number()
+>>> claim, certificate = certify_parting(n * n % 4, n % 2)
+>>> saying, paper = certify_rests(n * n, 4)
+>>> [claim[0], accepts(claim, certificate), accepts(claim, ()), saying[2:], accepts(saying, paper), certify_parting(n, n * n)[0][3], plain_rule(constant(3))]
+['same', True, False, (4, (0, 1)), True, 2, ((((1, 1),),), (((1, 1),),), (3,), ((1, 1),))]
+""",
+    """
+>>> from halverules.console import Console
+>>> console = Console()
+>>> [console.say("n = number"), console.say("h = n // 2"), console.say("s = sums h"), console.say("s at 7"), console.say("h and n"), console.say("n by 3 is 0 below 100"), console.say("equate 1 n + -1 n")]
+['rank 2', 'rank 3', 'rank 4', '9', 'apart at 1', '34', 'ok']
+""",
 ]
 
 

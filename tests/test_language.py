@@ -24,7 +24,7 @@ BUILTINS = set(
 METHODS = set(
     "append clear copy count endswith extend find get index insert isalnum isalpha isdigit islower isspace isupper items"
     " join keys ljust lower lstrip partition pop remove replace reverse rfind rjust rpartition rsplit rstrip setdefault"
-    " split splitlines startswith strip update upper values zfill bit_length".split())
+    " split splitlines startswith strip update upper values zfill bit_length removeprefix removesuffix".split())
 CHANGING = {"append", "clear", "extend", "insert", "pop", "remove", "reverse", "setdefault", "update", "sort", "add",
             "discard"}
 OPERATORS = set(
@@ -48,7 +48,7 @@ NODES = (
     ast.BoolOp, ast.And, ast.Or, ast.BinOp, ast.Add, ast.Sub, ast.Mult, ast.FloorDiv, ast.Mod, ast.Pow, ast.LShift,
     ast.RShift, ast.BitOr, ast.BitXor, ast.BitAnd, ast.UnaryOp, ast.Invert, ast.Not, ast.USub, ast.IfExp, ast.Dict,
     ast.ListComp, ast.DictComp, ast.comprehension, ast.Compare, ast.Eq, ast.NotEq, ast.Lt, ast.LtE, ast.Gt, ast.GtE,
-    ast.Is, ast.IsNot, ast.In, ast.NotIn, ast.Call, ast.keyword, ast.FormattedValue, ast.JoinedStr, ast.Constant,
+    ast.Try, ast.Is, ast.IsNot, ast.In, ast.NotIn, ast.Call, ast.keyword, ast.FormattedValue, ast.JoinedStr, ast.Constant,
     ast.Attribute, ast.Subscript, ast.Starred, ast.Name, ast.List, ast.Tuple, ast.Slice, ast.Load, ast.Store, ast.Del,
 )
 INTERFACE = {
@@ -65,6 +65,14 @@ INTERFACE = {
     "relations": ["parting", "new_numbers", "relations"],
     "learning": ["told_back"],
     "numbers": ["Numbers", "where"],
+    "texts": ["least_text", "read_least"],
+    "recurrences": ["solved"],
+    "values": ["all_values", "at_value", "bounded"],
+    "along": ["Row", "along", "powers", "index"],
+    "desks": ["Desk"],
+    "checker": ["accepts"],
+    "certificates": ["certify_parting", "certify_relations", "certify_rests", "plain_rule"],
+    "console": ["Console"],
 }
 METHODS_OF = {
     ("halved", "Halved"): set(
@@ -73,6 +81,12 @@ METHODS_OF = {
     ("numbers", "Numbers"): set(
         "told __and__ __or__ __sub__ __xor__ __invert__ __contains__ __le__ __bool__ __eq__ states least is_finite count"
         " kth indicator".split()),
+    ("along", "Row"): set(
+        "rank recurrence firsts __call__ __add__ __radd__ __sub__ __rsub__ __mul__ __rmul__ __neg__ __lshift__ __eq__"
+        " __bool__ __repr__".split()),
+    ("desks", "Desk"): set(
+        "names equations busy history __getitem__ __setitem__ __contains__ drop equate release do_all undo".split()),
+    ("console", "Console"): {"desk", "say"},
 }
 # The parameters of each function of the interface, and of the methods that are not operators.
 PARAMETERS = {
@@ -84,7 +98,18 @@ PARAMETERS = {
     ("learning", "told_back"): "values", ("numbers", "where"): "f modulus rest", ("numbers", "Numbers.told"): "*members",
     ("numbers", "Numbers.count"): "self below", ("numbers", "Numbers.kth"): "self index",
     ("numbers", "Numbers.indicator"): "self",
+    ("texts", "least_text"): "f", ("texts", "read_least"): "text", ("recurrences", "solved"): "text",
+    ("values", "all_values"): "f", ("values", "at_value"): "f value", ("values", "bounded"): "f low high",
+    ("along", "along"): "f start", ("along", "powers"): "base", ("along", "index"): "", ("along", "Row.__call__"): "self k",
+    ("desks", "Desk.__init__"): "self", ("desks", "Desk.drop"): "self name", ("desks", "Desk.equate"): "self row",
+    ("desks", "Desk.release"): "self index", ("desks", "Desk.do_all"): "self *deeds watch=None",
+    ("desks", "Desk.undo"): "self times=1", ("checker", "accepts"): "claim certificate",
+    ("certificates", "certify_parting"): "f g", ("certificates", "certify_relations"): "*functions",
+    ("certificates", "certify_rests"): "f modulus", ("certificates", "plain_rule"): "f",
+    ("console", "Console.__init__"): "self", ("console", "Console.say"): "self line",
 }
+# Methods that change their objects.
+SETTING = {("Desk", "take"), ("Desk", "do_all"), ("Desk", "undo")}
 
 
 class Source:
@@ -221,6 +246,22 @@ class StatementsTest(unittest.TestCase):
                     self.assertTrue(
                         any(name.id == alias.name for name in source.nodes(ast.Name)), (source.path, alias.name))
 
+    def test_imports_of_the_checker(self):
+        others = {"limits", "errors"}
+        waiting = ["checker"]
+        found = set()
+        while waiting:
+            module = waiting.pop()
+            found.add(module)
+            for node in BY_MODULE[f"{NAME}.{module}"].nodes(ast.ImportFrom):
+                if node.module in BY_MODULE and node.module.split(".")[1] not in others | found:
+                    waiting.append(node.module.split(".")[1])
+        self.assertEqual(found, {"checker", "plain", "spans", "residues"})
+        for source in SOURCES:
+            if source.module not in found:
+                used = {node.module for node in source.nodes(ast.ImportFrom)}
+                self.assertEqual(used & {f"{NAME}.{module}" for module in found}, set())
+
     def test_no_circles_of_imports(self):
         needs = {
             module: {node.module for node in source.nodes(ast.ImportFrom)} & set(BY_MODULE)
@@ -354,8 +395,11 @@ class ExpressionsTest(unittest.TestCase):
         for source in SOURCES:
             for call in source.nodes(ast.Call):
                 if isinstance(call.func, ast.Name):
-                    self.assertNotIn(call.func.id, ("sorted", "min", "max"))
-
+                    self.assertNotIn(call.func.id, ("min", "max"))
+                if isinstance(call.func, ast.Name) and call.func.id == "sorted":
+                    (items,) = call.args
+                    self.assertIsInstance(items, ast.ListComp)
+                    self.assertIn(items.elt.func.id, ("int", "str"))
 
     def test_no_stars_in_calls(self):
         for source in SOURCES:
@@ -462,10 +506,27 @@ class ChangesTest(unittest.TestCase):
 
     def test_attributes_are_set_when_an_object_is_made(self):
         for source in SOURCES:
-            for _, method in source.methods():
+            for owner, method in source.methods():
                 for node in ast.walk(method):
                     if isinstance(node, ast.Attribute) and not is_read(node):
-                        self.assertEqual((method.name, node.value.id), ("__init__", "self"))
+                        self.assertEqual(node.value.id, "self")
+                        self.assertTrue(method.name == "__init__" or (owner.name, method.name) in SETTING)
+
+    def test_finally(self):
+        # Nothing but attributes that are assigned local names that were assigned ahead of the try, or literals.
+        for source in SOURCES:
+            for node in source.nodes(ast.Try):
+                self.assertEqual((node.handlers, node.orelse), ([], []))
+                for row in node.finalbody:
+                    self.assertIsInstance(row, ast.Assign)
+                    (target,) = row.targets
+                    self.assertIsInstance(target, ast.Attribute)
+                    self.assertIsInstance(row.value, (ast.Name, ast.Constant))
+                (function,) = [found for found in source.functions() if node in found.body]
+                ahead = function.body[:function.body.index(node)]
+                known = {name.id for row in ahead for name in ast.walk(row) if isinstance(name, ast.Name) and not is_read(name)}
+                read = {name.id for row in node.finalbody for name in ast.walk(row.value) if isinstance(name, ast.Name)}
+                self.assertLessEqual(read, known)
 
     def test_what_is_iterated_over_is_not_changed(self):
         for source in SOURCES:
@@ -474,9 +535,11 @@ class ChangesTest(unittest.TestCase):
                 for node in [part for row in loop.body for part in ast.walk(row)]:
                     if isinstance(node, ast.Call) and isinstance(node.func, ast.Attribute):
                         if node.func.attr in CHANGING:
-                            self.assertNotIn(node.func.value.id, over, (source.path, loop.lineno))
+                            changed = {name.id for name in ast.walk(node.func.value) if isinstance(name, ast.Name)}
+                            self.assertEqual(changed & over, set(), (source.path, loop.lineno))
                     if isinstance(node, ast.Subscript) and not is_read(node):
-                        self.assertNotIn(node.value.id, over, (source.path, loop.lineno))
+                        changed = {name.id for name in ast.walk(node.value) if isinstance(name, ast.Name)}
+                        self.assertEqual(changed & over, set(), (source.path, loop.lineno))
 
 
 class InterfaceTest(unittest.TestCase):
@@ -498,8 +561,9 @@ class InterfaceTest(unittest.TestCase):
             found = [arg.arg for arg in place.args.args]
             if place.args.vararg:
                 found.append("*" + place.args.vararg.arg)
+            found.extend(f"{arg.arg}={ast.unparse(worth)}" for arg, worth in zip(place.args.kwonlyargs, place.args.kw_defaults))
             self.assertEqual(" ".join(found), parameters)
-            self.assertEqual((place.args.defaults, place.args.kwonlyargs, place.args.posonlyargs), ([], [], []))
+            self.assertEqual((place.args.defaults, place.args.posonlyargs), ([], []))
 
 
 if __name__ == "__main__":
