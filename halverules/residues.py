@@ -7,7 +7,7 @@ from halverules.plain import is_between, is_row_of, row_times
 def is_closed(value, rule, modulus, rests):
     """Whether these are rows that show that the rests of a rule are among the given ones.
 
-    The row that is told is there, and with each row those that it makes at 2 n and at 2 n + 1; at 0 all have such rests.
+    The told row is there, and with each row those that it makes at 2 n and at 2 n + 1; at 0 all have such rests.
     """
     width = len(rule.starts)
     matrices = [matrix_of(rows) for rows in rule.halves]
