@@ -1,4 +1,9 @@
-"""Which numbers are the members of a set, and how many there are."""
+"""Which numbers are the members of a set, and how many there are.
+
+A level is told by the parts that are reached with so many digits, from the lowest one on: the places of their even
+halves, and those of their odd halves, among the parts that are reached with one digit more; these parts; and whether
+they are the same ones again, in the same order.
+"""
 
 
 def is_member(parts, number):
@@ -9,60 +14,86 @@ def is_member(parts, number):
     return parts.starts[at] == 1
 
 
-def next_ways(parts, ways):
-    """In how many ways each part is reached with one more digit, if it is reached in so many ways."""
-    further = {}
-    for at in ways:
+def level_of(parts, reached):
+    """The level of these parts."""
+    found = {}
+    for at in reached:
         for half in parts.halves[at]:
-            further[half] = further.get(half, 0) + ways[at]
-    return further
+            if half not in found:
+                found[half] = len(found)
+    settled = len(found) == len(reached) and all([at in found for at in reached])
+    behind = reached if settled else list(found)
+    places = {at: place for place, at in enumerate(behind)}
+    evens = [places[parts.halves[at][0]] for at in reached]
+    odds = [places[parts.halves[at][1]] for at in reached]
+    return evens, odds, behind, settled
 
 
-def reached(ways, high):
-    """In how many ways a part is reached that has the number of the higher digits, if `high` tells which have it."""
-    return sum([ways[at] for at in ways if high[at] == 1])
-
-
-def halved_high(parts, high, digit):
-    """Which parts have the number of the higher digits and this one, if `high` tells which have that without it."""
-    return [high[pair[digit]] for pair in parts.halves]
+def next_level(parts, level):
+    """The level behind this one."""
+    _, _, behind, settled = level
+    return level if settled else level_of(parts, behind)
 
 
 def count_below(parts, below):
     """How many members of the set are less than `below`."""
     length = below.bit_length()
-    levels = [{0: 1}]
-    for at in range(length):
-        levels.append(next_ways(parts, levels[at]))
-    count = 0
-    high = parts.starts
+    levels = [level_of(parts, [0])]
+    while len(levels) < length:
+        levels.append(next_level(parts, levels[-1]))
+    _, _, last, _ = levels[-1]
+    # Of each part reached: whether it has the number of the higher digits, and how many lesser numbers of as many.
+    high = [parts.starts[at] for at in last]
+    less = [0 for _ in last]
     for at in reversed(range(length)):
-        digit = below >> at & 1
-        if digit == 1:
-            # All numbers that begin like this one, but with a 0 here, are less, whatever their lower digits are.
-            count = count + reached(levels[at], halved_high(parts, high, 0))
-        high = halved_high(parts, high, digit)
-    return count
+        evens, odds, _, _ = levels[at]
+        if below >> at & 1 == 1:
+            less = [less[even] + less[odd] + high[even] for even, odd in zip(evens, odds)]
+            high = [high[odd] for odd in odds]
+        else:
+            less = [less[even] + less[odd] for even, odd in zip(evens, odds)]
+            high = [high[even] for even in evens]
+    return less[0] if length > 0 else 0
+
+
+def next_ways(level, ways):
+    """In how many ways the parts behind a level are reached, if those of the level are in so many ways."""
+    evens, odds, behind, _ = level
+    further = [0 for _ in behind]
+    for even, odd, way in zip(evens, odds, ways):
+        further[even] = further[even] + way
+        further[odd] = further[odd] + way
+    return further
+
+
+def ways_among(ways, marks):
+    """In how many ways parts are reached that have the mark 1."""
+    return sum([way for way, mark in zip(ways, marks) if mark == 1])
 
 
 def member_at(parts, index, most):
     """The member before which there are so many; None if there is none with at most so many digits."""
-    levels = [{0: 1}]
-    while reached(levels[-1], parts.starts) <= index:
-        if len(levels) > most:
+    levels = [level_of(parts, [0])]
+    ways = [[1]]
+    high = [parts.starts[0]]
+    while ways_among(ways[-1], high) <= index:
+        if len(ways) > most:
             return None
-        levels.append(next_ways(parts, levels[-1]))
+        level = levels[-1]
+        ways.append(next_ways(level, ways[-1]))
+        high = [parts.starts[at] for at in level[2]]
+        levels.append(next_level(parts, level))
     member = 0
-    high = parts.starts
-    for at in reversed(range(len(levels) - 1)):
-        evens = halved_high(parts, high, 0)
-        lesser = reached(levels[at], evens)
+    for at in reversed(range(len(ways) - 1)):
+        evens, odds, _, _ = levels[at]
+        even_high = [high[even] for even in evens]
+        lesser = ways_among(ways[at], even_high)
         if index < lesser:
-            high = evens
+            high = even_high
             member = 2 * member
         else:
             index = index - lesser
-            high = halved_high(parts, high, 1)
+            high = [high[odd] for odd in odds]
             member = 2 * member + 1
     return member
 
@@ -70,10 +101,13 @@ def member_at(parts, index, most):
 def has_last(parts):
     """Whether the set with these parts, which all differ, has no members or a greatest one."""
     # A finite set has more parts than its greatest member has digits, so with these gone no more than 0 is left.
-    level = {0: True}
+    reached = [0]
     for _ in parts.halves:
-        level = {half: True for at in level for half in parts.halves[at]}
-    return all([is_nothing_but_0(parts, at) for at in level])
+        _, _, behind, settled = level_of(parts, reached)
+        if settled:
+            break
+        reached = behind
+    return all([is_nothing_but_0(parts, at) for at in reached])
 
 
 def is_nothing_but_0(parts, at):

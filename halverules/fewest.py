@@ -75,17 +75,19 @@ def independent(lines, mix):
 def value_span(lines):
     """An echelon of which the rows of values of all lines at one number are combinations, for each number."""
     echelon = []
-    waiting = [lines.starts]
+    waiting = [(lines.starts, None)]
     at = 0
-    while at < len(waiting):
-        values = waiting[at]
+    while at < len(waiting) and len(echelon) < len(lines.starts):
+        values, digit = waiting[at]
         at += 1
+        if digit is not None:
+            values = next_values(lines, values, digit)
         rest = reduced(sparse(values), echelon)
         pivot = least_index(rest, len(values))
         if pivot is not None:
             echelon.append((pivot, rest))
-            waiting.append(next_values(lines, values, 0))
-            waiting.append(next_values(lines, values, 1))
+            waiting.append((values, 0))
+            waiting.append((values, 1))
     return echelon
 
 
@@ -114,7 +116,7 @@ def part_span(broken, share):
     echelon = []
     waiting = [share]
     at = 0
-    while at < len(waiting):
+    while at < len(waiting) and len(echelon) < len(broken.starts):
         part = waiting[at]
         at += 1
         rest = reduced(part[0], echelon)

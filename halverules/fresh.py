@@ -13,11 +13,14 @@ def fresh_numbers(lines, apart):
     small = []
     exact = []
     found = []
+    # Each number waits with the values at its half.
     waiting = [(0, lines.starts)]
     at = 0
     while at < len(waiting) and len(found) < len(lines.starts):
         number, values = waiting[at]
         at += 1
+        if number > 0:
+            values = next_values(lines, values, number % 2)
         # What is no combination modulo a prime is none by fractions either, if this held for all found so far.
         rest, pivot = rest_by([worth % PRIME for worth in values], small)
         if pivot is not None and len(small) == len(found):
@@ -32,7 +35,7 @@ def fresh_numbers(lines, apart):
         for digit in (0, 1):
             # The number 0 is twice itself.
             if number + digit > 0:
-                waiting.append((2 * number + digit, next_values(lines, values, digit)))
+                waiting.append((2 * number + digit, values))
     return found
 
 

@@ -5,7 +5,7 @@ from halverules.checks import is_integer
 from halverules.errors import InvalidValues
 from halverules.halved import function_of
 from halverules.least import combination
-from halverules.lines import sum_of, values_at
+from halverules.lines import first_values, sum_of
 from halverules.rows import least_index, reduced, sparse
 from halverules.whole import whole_lines
 
@@ -29,7 +29,7 @@ def told_back(values):
     if made is None:
         return None
     lines, mix = made
-    if any([sum_of(mix, values_at(lines, n)) != worth for n, worth in enumerate(values)]):
+    if any([sum_of(mix, own) != worth for own, worth in zip(first_values(lines, len(values)), values)]):
         return None
     return function_of(lines, mix)
 

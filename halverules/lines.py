@@ -63,6 +63,14 @@ def next_values(lines, values, digit):
     return stepped_values(lines.halves[digit], values)
 
 
+def first_values(lines, many):
+    """The values of all lines at so many numbers, from 0 on, at least at 0."""
+    known = [lines.starts]
+    for n in range(1, many):
+        known.append(next_values(lines, known[n // 2], n % 2))
+    return known
+
+
 def values_at(lines, n):
     """The values of all lines at n."""
     length = n.bit_length()

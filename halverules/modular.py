@@ -53,14 +53,16 @@ def some_parts(lines, mix):
 def column_rank(lines, parts):
     """How many rows of values of these parts at one number are no combinations of one another, RANK + 1 at most."""
     echelon = []
-    waiting = [lines.starts]
+    waiting = [(lines.starts, None)]
     at = 0
     while at < len(waiting) and len(echelon) <= RANK:
-        values = waiting[at]
+        values, digit = waiting[at]
         at += 1
+        if digit is not None:
+            values = [worth % PRIME for worth in next_values(lines, values, digit)]
         rest, pivot = rest_by([sum_of(part, values) % PRIME for part in parts], echelon)
         if pivot is not None:
             echelon.append((pivot, rest))
-            waiting.append([worth % PRIME for worth in next_values(lines, values, 0)])
-            waiting.append([worth % PRIME for worth in next_values(lines, values, 1)])
+            waiting.append((values, 0))
+            waiting.append((values, 1))
     return len(echelon)

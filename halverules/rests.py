@@ -1,40 +1,46 @@
 """The rests of a mix of lines by a modulus, and of all its parts.
 
-What is told by halves has few different parts if only rests are asked for; each of them is kept by the rests of its
-factors.
+What is told by halves has few different parts if only rests are asked for. Each of them is kept by its rests at rows of
+values of which the values of all lines at n are sums of integer multiples, but for rests: two parts have the same rests
+for all n if, and only if, they have the same rests there.
 """
 
-from halverules.lines import half_mix, line_rests, mix_rests, next_values, sum_of
+from halverules.lines import line_rests, mix_rests, next_values, sum_of
 from halverules.parts import Parts
-from halverules.whole import left_over, widened
+from halverules.rows import sparse
+from halverules.whole import factors_in, left_over, widened
 
 
 def rest_parts(lines, mix, modulus, most):
     """The different parts of the rests of a mix by the modulus, None if there are more than `most`."""
     lines = line_rests(lines, modulus)
-    seen = value_rests(lines, modulus)
-    parts = [mix_rests(mix, modulus)]
-    places = {seen_as(parts[0], seen, modulus): 0}
+    lattice = value_lattice(lines, modulus)
+    width = len(lines.starts)
+    evens, odds = [half_rows(lines, lattice, modulus, digit) for digit in (0, 1)]
+    first = mix_rests(mix, modulus)
+    parts = [tuple([sum_of(first, lattice[place]) % modulus for place in range(width)])]
+    places = {parts[0]: 0}
     halves = []
     at = 0
     while at < len(parts):
+        part = parts[at]
+        at += 1
         pair = []
-        for digit in (0, 1):
-            part = mix_rests(half_mix(lines, parts[at], digit), modulus)
-            mark = seen_as(part, seen, modulus)
-            if mark not in places:
+        for rows in (evens, odds):
+            half = tuple([sum_of(row, part) % modulus for row in rows])
+            if half not in places:
                 if len(parts) == most:
                     return None
-                places[mark] = len(parts)
-                parts.append(part)
-            pair.append(places[mark])
+                places[half] = len(parts)
+                parts.append(half)
+            pair.append(places[half])
         halves.append((pair[0], pair[1]))
-        at += 1
-    return Parts(halves, [sum_of(part, lines.starts) % modulus for part in parts])
+    start = sparse(factors_in(lattice, lines.starts))
+    return Parts(halves, [sum_of(start, part) % modulus for part in parts])
 
 
-def value_rests(lines, modulus):
-    """Rows of values of which the values of all lines at n are sums of integer multiples, for each n, but for rests."""
+def value_lattice(lines, modulus):
+    """The least lattice that has the values of all lines at n, for each n, and all rows whose rests are 0."""
     width = len(lines.starts)
     lattice = {place: [modulus if to == place else 0 for to in range(width)] for place in range(width)}
     waiting = [lines.starts]
@@ -46,9 +52,14 @@ def value_rests(lines, modulus):
             lattice = widened(lattice, values)
             waiting.append(next_values(lines, values, 0))
             waiting.append(next_values(lines, values, 1))
-    return [lattice[place] for place in range(width)]
+    return lattice
 
 
-def seen_as(part, seen, modulus):
-    """What the rests of a part are at the values seen: two parts have the same rests for all n if this is the same."""
-    return tuple([sum_of(part, values) % modulus for values in seen])
+def half_rows(lines, lattice, modulus, digit):
+    """For each row of the lattice the rests by which the rows add up to what this one leads to at 2 n + digit.
+
+    By these rests a part's own rests at the rows add up to those of its half.
+    """
+    width = len(lines.starts)
+    rows = [factors_in(lattice, next_values(lines, lattice[place], digit)) for place in range(width)]
+    return [sparse([factor % modulus for factor in row]) for row in rows]

@@ -27,9 +27,13 @@ def cleared(row, other, pivot):
     common = gcd(row[pivot], other[pivot])
     times = other[pivot] // common
     minus = row[pivot] // common
-    mixed = {}
-    for at in row:
-        mixed[at] = times * row[at]
+    if times < 0:
+        times = -times
+        minus = -minus
+    mixed = dict(row)
+    if times != 1:
+        for at in row:
+            mixed[at] = times * row[at]
     for at in other:
         mixed[at] = mixed.get(at, 0) - minus * other[at]
     return trimmed(mixed)
