@@ -33,12 +33,11 @@ class Console:
         """Executes a line and returns the answer."""
         words = line.split(" ") if isinstance(line, str) else []
         if len(words) > 2 and words[1] == "=" and is_name(words[0]):
-            make, things = maker_in(words[2:])
-            if make is not None:
-                function = make(self._desk, things)
+            function = made_by(self._desk, words[2:])
+            if function is not None:
                 self._desk[words[0]] = function
                 return f"rank {function.rank}"
-        form, things = form_in(words, ANSWERS)
+        form, things = form_in(words, list(ANSWERS))
         if form is not None:
             answer = ANSWERS[form]
             return answer(self._desk, things)
@@ -49,14 +48,25 @@ class Console:
         return DONE
 
 
-def maker_in(words):
-    """What makes a function by the words behind `A =`, None without any, and the names and numbers for it."""
-    name, _, tail = " ".join(words).partition("[")
+def made_by(desk, words):
+    """The function that the words behind `A =` tell, None if they tell none."""
+    part = part_in(" ".join(words))
+    if part is not None:
+        return make_part(desk, part)
+    form, things = form_in(words, list(MAKERS))
+    if form is None:
+        return None
+    make = MAKERS[form]
+    return make(desk, things)
+
+
+def part_in(text):
+    """The name and the pair that `B[K, N]` tells, None if the text is not written so."""
+    name, _, tail = text.partition("[")
     numbers = [integer_in(word) for word in tail.removesuffix("]").split(", ")]
-    if is_name(name) and len(numbers) == 2 and None not in numbers and tail == f"{numbers[0]}, {numbers[1]}]":
-        return make_part, [name, (numbers[0], numbers[1])]
-    form, things = form_in(words, MAKERS)
-    return None if form is None else MAKERS[form], things
+    if not is_name(name) or len(numbers) != 2 or None in numbers or tail != f"{numbers[0]}, {numbers[1]}]":
+        return None
+    return [name, (numbers[0], numbers[1])]
 
 
 def form_in(words, forms):

@@ -512,6 +512,24 @@ class ChangesTest(unittest.TestCase):
                         self.assertEqual(node.value.id, "self")
                         self.assertTrue(method.name == "__init__" or (owner.name, method.name) in SETTING)
 
+    def test_tables_are_only_read(self):
+        readers = ("len", "list", "dict", "tuple", "enumerate", "sorted")
+        for source in SOURCES:
+            tables = {
+                node.targets[0].id for node in source.tree.body
+                if isinstance(node, ast.Assign) and isinstance(node.value, (ast.Dict, ast.List))}
+            fine = [node.value for node in source.nodes(ast.Subscript)]
+            fine += [right for node in source.nodes(ast.Compare) for right in node.comparators]
+            fine += [node.iter for node in source.nodes(ast.For, ast.comprehension)]
+            fine += [arg for call in source.nodes(ast.Call) for arg in call.args
+                     if isinstance(call.func, ast.Name) and call.func.id in readers]
+            for name in source.nodes(ast.Name):
+                if name.id in tables and is_read(name):
+                    self.assertIn(name, fine, (source.path, name.lineno))
+            for node in source.nodes(ast.Subscript):
+                if isinstance(node.value, ast.Name) and node.value.id in tables:
+                    self.assertTrue(is_read(node))
+
     def test_finally(self):
         # Nothing but attributes that are assigned local names that were assigned ahead of the try, or literals.
         for source in SOURCES:
