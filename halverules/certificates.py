@@ -1,15 +1,17 @@
 """Claims about functions, with the certificates that the checker accepts."""
 
+from math import lcm
+
 from halverules.broken import share_of
 from halverules.checks import is_between
 from halverules.errors import InvalidNumber, TooManyStates
 from halverules.fresh import fresh_numbers
 from halverules.halved import check_function, whole_row
-from halverules.least import combination, filled
+from halverules.least import filled, fraction
 from halverules.limits import MODULUS, STATES
-from halverules.lines import half_mix, line_rests, mix_rests, next_values, sum_of
+from halverules.lines import combined, half_mix, line_rests, mix_rests, next_values, sum_of
 from halverules.relations import parting, relation_rows, together
-from halverules.rows import least_index, reduced, sparse
+from halverules.rows import least_index, reduced, settled, sparse
 from halverules.whole import whole_rule
 
 
@@ -44,21 +46,54 @@ def span_of(functions, end):
     """
     lines, _ = together(functions)
     fresh = [pair for pair in fresh_numbers(lines, {}) if end is None or pair[0] < end]
-    width = len(lines.starts)
-    echelon = []
-    for at, (_, values) in enumerate(fresh):
-        # Behind its values a row tells by which factors it is mixed from those at the numbers.
-        rest = reduced({**sparse(values), width + at: 1}, echelon)
-        echelon.append((least_index(rest, width), rest))
+    many = len(fresh)
+    places = {number: at for at, (number, _) in enumerate(fresh)}
+    mixes, bottom = turned_values([values for _, values in fresh])
     rows = []
     for number, values in fresh:
         pair = [None, None]
         for digit in (0, 1):
-            if end is None or 2 * number + digit < end:
-                rest = reduced({**sparse(next_values(lines, values, digit)), width + len(fresh): 1}, echelon)
-                pair[digit] = filled(combination(rest, width, len(fresh)), len(fresh))
+            half = 2 * number + digit
+            if half in places:
+                pair[digit] = filled({places[half]: (1, 1)}, many)
+            elif end is None or half < end:
+                tops = combined(sparse(next_values(lines, values, digit)), mixes)
+                pair[digit] = filled({at: fraction(tops[at], bottom) for at in tops}, many)
         rows.append((pair[0], pair[1]))
-    return tuple([number for number, _ in fresh]), tuple(rows)
+    return tuple(list(places)), tuple(rows)
+
+
+def turned_values(columns):
+    """By which factors columns of values, which are no combinations of one another, add up to a combination of them.
+
+    For each place the mix of the columns that goes with a 1 there, and the bottom by which their sum is divided. Some
+    places are enough to tell a combination; at the others nothing goes with a 1.
+    """
+    width = len(columns[0]) if columns else 0
+    echelon = []
+    for at, values in enumerate(columns):
+        # Behind its values a row tells by which factors it is mixed from the columns.
+        rest = reduced({**sparse(values), width + at: 1}, echelon)
+        echelon.append((least_index(rest, width), rest))
+    pivots = {pivot: True for pivot, _ in echelon}
+    rows = settled([(pivot, row_at(row, pivots, width)) for pivot, row in echelon])
+    bottom = 1
+    for pivot, row in rows:
+        bottom = lcm(bottom, row[pivot])
+    mixes = [{} for _ in range(width)]
+    for pivot, row in rows:
+        mixes[pivot] = factors_behind(row, width, bottom // row[pivot])
+    return mixes, bottom
+
+
+def row_at(row, pivots, width):
+    """The row without what stands below the width, but for the pivots."""
+    return {at: row[at] for at in row if at >= width or at in pivots}
+
+
+def factors_behind(row, width, times):
+    """So many times what stands from the width on."""
+    return {at - width: times * row[at] for at in row if at >= width}
 
 
 def certify_rests(f, modulus):
