@@ -5,7 +5,7 @@ never greater than the true one. The numbers stay small, so that it is found soo
 """
 
 from halverules.limits import RANK
-from halverules.lines import half_mix, line_rests, mix_rests, next_values, sum_of
+from halverules.lines import half_mix, line_rests, mix_rests, next_values, stepped_values
 
 PRIME = 1073741789
 
@@ -60,7 +60,7 @@ def column_rank(lines, parts):
         at += 1
         if digit is not None:
             values = [worth % PRIME for worth in next_values(lines, values, digit)]
-        rest, pivot = rest_by([sum_of(part, values) % PRIME for part in parts], echelon)
+        rest, pivot = rest_by([worth % PRIME for worth in stepped_values(parts, values)], echelon)
         if pivot is not None:
             echelon.append((pivot, rest))
             waiting.append((values, 0))
