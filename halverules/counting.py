@@ -29,22 +29,26 @@ def level_of(parts, reached):
     return evens, odds, behind, settled
 
 
-def next_level(parts, level):
-    """The level behind this one."""
-    _, _, behind, settled = level
-    return level if settled else level_of(parts, behind)
+def next_level(parts, levels, reached):
+    """The level of these parts, which stands behind the other ones."""
+    if levels:
+        _, _, _, settled = levels[-1]
+        if settled:
+            return levels[-1]
+    return level_of(parts, reached)
 
 
 def count_below(parts, below):
     """How many members of the set are less than `below`."""
     length = below.bit_length()
-    levels = [level_of(parts, [0])]
-    while len(levels) < length:
-        levels.append(next_level(parts, levels[-1]))
-    _, _, last, _ = levels[-1]
+    levels = []
+    reached = [0]
+    for _ in range(length):
+        levels.append(next_level(parts, levels, reached))
+        _, _, reached, _ = levels[-1]
     # Of each part reached: whether it has the number of the higher digits, and how many lesser numbers of as many.
-    high = [parts.starts[at] for at in last]
-    less = [0 for _ in last]
+    high = [parts.starts[at] for at in reached]
+    less = [0 for _ in reached]
     for at in reversed(range(length)):
         evens, odds, _, _ = levels[at]
         if below >> at & 1 == 1:
@@ -53,7 +57,7 @@ def count_below(parts, below):
         else:
             less = [less[even] + less[odd] for even, odd in zip(evens, odds)]
             high = [high[even] for even in evens]
-    return less[0] if length > 0 else 0
+    return less[0]
 
 
 def next_ways(level, ways):
@@ -73,18 +77,19 @@ def ways_among(ways, marks):
 
 def member_at(parts, index, most):
     """The member before which there are so many; None if there is none with at most so many digits."""
-    levels = [level_of(parts, [0])]
+    levels = []
     ways = [[1]]
-    high = [parts.starts[0]]
-    while ways_among(ways[-1], high) <= index:
+    reached = [0]
+    # There are not so many numbers with fewer digits than the index, so their members need not be counted.
+    while len(ways) <= index.bit_length() or ways_among(ways[-1], [parts.starts[at] for at in reached]) <= index:
         if len(ways) > most:
             return None
-        level = levels[-1]
-        ways.append(next_ways(level, ways[-1]))
-        high = [parts.starts[at] for at in level[2]]
-        levels.append(next_level(parts, level))
+        levels.append(next_level(parts, levels, reached))
+        ways.append(next_ways(levels[-1], ways[-1]))
+        _, _, reached, _ = levels[-1]
+    high = [parts.starts[at] for at in reached]
     member = 0
-    for at in reversed(range(len(ways) - 1)):
+    for at in reversed(range(len(levels))):
         evens, odds, _, _ = levels[at]
         even_high = [high[even] for even in evens]
         lesser = ways_among(ways[at], even_high)
