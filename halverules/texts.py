@@ -14,9 +14,14 @@ NOTHING = "0"
 def least_text(f):
     """The text of the least rule."""
     check_function(f)
-    labels = [part_text(part) for part in f.basis]
-    rows = [f"rank {f.rank}"]
-    for label, first, (even, odd) in zip(labels, f.firsts, f.equations):
+    return rule_text(f.basis, f.equations, f.firsts)
+
+
+def rule_text(basis, equations, firsts):
+    """The text of a rule that is told by basic parts, their equations and their first values."""
+    labels = [part_text(part) for part in basis]
+    rows = [f"rank {len(labels)}"]
+    for label, first, (even, odd) in zip(labels, firsts, equations):
         rows.append(f"{label} = {first}; {sum_text(even, labels)}; {sum_text(odd, labels)}")
     return "\n".join(rows)
 
@@ -42,59 +47,71 @@ def fraction_text(pair):
 def read_least(text):
     """The function with such a text."""
     function = function_in(text) if isinstance(text, str) else None
-    # Whatever was read too freely is found here: each function has just one text.
-    if function is None or least_text(function) != text:
+    if function is None:
         raise InvalidText(text)
     return function
 
 
 def function_in(text):
-    """The function that a text tells, None if none is told."""
-    told = lines_in(text)
+    """The function with this text, None if there is none."""
+    told = rule_in(text)
     if told is None:
         return None
-    evens, odds, firsts = told
-    made = whole_rule([share_of(even) for even in evens], [share_of(odd) for odd in odds], firsts)
+    basis, equations, firsts = told
+    # Whatever was read too freely is found here: each rule has just one text.
+    if rule_text(basis, equations, firsts) != text:
+        return None
+    evens, odds = [[share_of(halves[digit]) for halves in equations] for digit in (0, 1)]
+    made = whole_rule(evens, odds, list(firsts))
     if made is None:
         return None
     lines, mix = made
-    return Halved(lines, mix, least_rule(lines, mix))
+    return Halved(lines, mix, told) if least_rule(lines, mix) == told else None
 
 
-def lines_in(text):
-    """The even rows, the odd rows and the first values that a text tells, None if it is not written like one."""
+def rule_in(text):
+    """The basic parts, equations and first values that a text tells, None if it is not written like one."""
     head, *rows = text.split("\n")
     if len(rows) > RANK or head != f"rank {len(rows)}":
         return None
-    labels = {}
+    places = {}
     tails = []
     for row in rows:
         label, _, tail = row.partition(" = ")
-        labels[label] = len(tails)
+        places[label] = len(tails)
         tails.append(tail.split("; "))
     # A label that stands there twice leaves fewer of them.
-    if len(labels) != len(rows) or not all([len(tail) == 3 for tail in tails]):
+    if len(places) != len(rows) or not all([len(tail) == 3 for tail in tails]):
         return None
+    basis = [part_in(label) for label in places]
     firsts = [integer_in(first) for first, _, _ in tails]
-    evens = [row_in(even, labels) for _, even, _ in tails]
-    odds = [row_in(odd, labels) for _, _, odd in tails]
-    if None in firsts or None in evens or None in odds:
+    evens = [row_in(even, places) for _, even, _ in tails]
+    odds = [row_in(odd, places) for _, _, odd in tails]
+    if None in basis or None in firsts or None in evens or None in odds:
         return None
-    return evens, odds, firsts
+    return tuple(basis), tuple(zip(evens, odds)), tuple(firsts)
 
 
-def row_in(text, labels):
-    """The row of fractions that the text of a sum tells, None if it is none."""
-    row = [(0, 1) for _ in labels]
-    if text == NOTHING:
-        return row
-    for term in text.split(" + "):
+def part_in(label):
+    """The part that is written so, None if it is none."""
+    step, _, start = label.removeprefix("f[").removesuffix("]").partition(", ")
+    numbers = [integer_in(step), integer_in(start)]
+    if None in numbers or numbers[0] < 1:
+        return None
+    return numbers[0].bit_length() - 1, numbers[1]
+
+
+def row_in(text, places):
+    """The row of fractions of the parts with these labels that the text of a sum tells, None if it is none."""
+    row = [(0, 1) for _ in places]
+    terms = [] if text == NOTHING else text.split(" + ")
+    for term in terms:
         factor, _, label = term.partition(" ")
         pair = fraction_in(factor)
-        if pair is None or label not in labels:
+        if pair is None or label not in places:
             return None
-        row[labels[label]] = pair
-    return row
+        row[places[label]] = pair
+    return tuple(row)
 
 
 def fraction_in(text):

@@ -301,6 +301,23 @@ class ReadTest(unittest.TestCase):
         with self.assertRaises(TooMany):
             single(2 ** 16 - 1)
 
+    def test_great_numbers(self):
+        great = "7" * 2900
+        for many in (1, 2, 15):
+            # The lines are told by one another in a ring, but not by the least rule.
+            labels = [f"f[{2 ** at}, {2 ** at - 1}]" for at in range(many)]
+            rows = [f"rank {many}"]
+            for at, label in enumerate(labels):
+                rows.append(f"{label} = 1; 1 {label}; {great} {labels[(at + 1) % many]} + {great[:-1]} {labels[at]}")
+            text = "\n".join(rows)
+            self.assertLess(len(text), 100000)
+            self.refused(text)
+            self.refused(text.replace("= 1;", "= 2;", 1))
+        right = f"rank 1\nf[1, 0] = -{great}; 1 f[1, 0]; {great} f[1, 0]"
+        self.assertEqual(read_least(right)(3), -int(great) ** 3)
+        self.assertEqual(least_text(read_least(right)), right)
+        self.refused("rank 1\nf[1, 0] = 1; 1 f[1, 0]; 0" + "7" * 5000 + " f[1, 0]")
+
     def test_drawn_texts(self):
         chance = random.Random(403)
         taken = 0
